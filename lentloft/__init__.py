@@ -1,0 +1,1 @@
+"""Lentloft: files that share what they hold."""
