@@ -5,6 +5,8 @@ from lentloft.errors import Wrong
 TOP_CONTENT = 10 ** 9
 TOP_PLACE = 10 ** 12
 LONGEST_NAME = 8
+MOST_ROOM = 120
+MOST_CONTENTS = 24
 LETTERS = "abcdefghijklmnopqrstuvwxyz"
 
 
@@ -14,14 +16,36 @@ def is_whole(thing):
     return isinstance(thing, int) and not isinstance(thing, bool)
 
 
+def is_within(thing, least, most):
+    """Tell whether a thing is a whole number from least to most."""
+    return is_whole(thing) and least <= thing <= most
+
+
 def is_content(thing):
     """Tell whether a thing is a content."""
-    return is_whole(thing) and 0 <= thing <= TOP_CONTENT
+    return is_within(thing, 0, TOP_CONTENT)
+
+
+def are_contents(thing):
+    """Tell whether a thing is a list of contents that can be written at once."""
+    if not isinstance(thing, list) or not 1 <= len(thing) <= MOST_CONTENTS:
+        return False
+    return all(is_content(content) for content in thing)
 
 
 def is_place(thing):
     """Tell whether a thing is a place; a size and a count are of the same kind."""
-    return is_whole(thing) and 0 <= thing <= TOP_PLACE
+    return is_within(thing, 0, TOP_PLACE)
+
+
+def is_grain(thing):
+    """Tell whether a thing is a grain, kept or not."""
+    return is_whole(thing) and thing >= 0
+
+
+def is_room(thing):
+    """Tell whether a thing is a number of grains for which there may be room."""
+    return is_within(thing, 1, MOST_ROOM)
 
 
 def is_name(thing):

@@ -88,3 +88,51 @@ def moved(stretches, by):
 def stretched(stretches, by):
     """Stretches so many times as long, and as far apart."""
     return [(first * by, behind * by) for first, behind in stretches]
+
+
+def no_rooms():
+    """Things that are no numbers of grains for which a pool may have room."""
+    return no_wholes() + [0, -1, 121, 122, 10 ** 12, 10 ** 5000, -(10 ** 5000)]
+
+
+def no_contents():
+    """Things that are no contents."""
+    return no_wholes() + [-1, 10 ** 9 + 1, 10 ** 12, 10 ** 5000, -(10 ** 5000)]
+
+
+def no_grains():
+    """Things that are no grains, kept or not."""
+    return no_wholes() + [-1, -2, -(10 ** 12), -(10 ** 5000)]
+
+
+def no_many_of(most):
+    """Things that are no whole numbers from 0 to so many."""
+    return no_wholes() + [-1, most + 1, most + 2, 10 ** 13, 10 ** 5000, -(10 ** 5000)]
+
+
+def lists_with(bad, good, most):
+    """Lists with one bad thing, at the first, some middle or the last place, of all lengths that matter."""
+    told = [[bad], [bad, good], [good, bad], [good, bad, good], [bad, bad]]
+    return told + [[good] * at + [bad] + [good] * (most - 1 - at) for at in (0, 1, most // 2, most - 2, most - 1)]
+
+
+def no_writings():
+    """Things that are no lists of 1 to 24 contents."""
+    lists = [[], [0] * 25, [1] * 26, [7] * 1000, [[1]], [[1, 2]], [(1,)], [[]]]
+    for thing in no_contents():
+        lists += lists_with(thing, 5, 24)
+    return no_lists() + [(1, 2), {1: 2}, {1, 2}, "12", b"12", range(1, 3)] + lists
+
+
+def no_takings():
+    """Things that are no lists of 1 to 60 grains or Nones."""
+    lists = [[], [None] * 61, [0] * 61, [0] * 60 + [None], [None] * 1000, [[0]], [(0,)], [[]], [[None]]]
+    for thing in no_grains():
+        if thing is not None:
+            lists += lists_with(thing, 0, 60) + lists_with(thing, None, 60)
+    return no_lists() + [(0,), (None,), {0: None}, {0}, "0", b"0", range(1)] + lists
+
+
+def no_objects():
+    """Things that are neither pools nor files."""
+    return no_wholes() + [0, 1, -1, TOP, 10 ** 5000, "pool", "file", object(), object]

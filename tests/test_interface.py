@@ -10,6 +10,21 @@ FUNCTIONS = {
         "is_normal": ["thing"], "spans_of": ["stretches"], "either": ["one", "other"], "both": ["one", "other"],
         "less": ["one", "other"], "gaps": ["one", "size"], "many_in": ["one"], "has_place": ["one", "place"],
     },
+    "lending": {
+        "lend": ["source", "at", "many", "target", "to"], "copied": ["file"], "shared": ["one", "other"],
+        "differs": ["one", "other"],
+    },
+}
+CLASSES = {
+    ("pool", "Pool"): {
+        "__init__": ["room"], "lay": ["content"], "hold": ["grain"], "let_go": ["grain"], "content_of": ["grain"],
+        "holds": ["grain"], "kept": [], "left": [],
+    },
+    ("files", "File"): {
+        "__init__": ["pool"], "pool": [], "size": [], "resize": ["size"], "make_holes": ["at", "many"],
+        "write": ["at", "contents"], "take": ["at", "grains"], "read": ["at", "many"], "grain_at": ["place"],
+        "held": [], "pieces": [],
+    },
 }
 REFUSALS = {
     "Wrong": ["at"], "NoRoom": [], "TooFull": [], "NoPlace": ["place"], "NoGrain": ["grain"], "NoFile": ["name"],
@@ -24,6 +39,14 @@ class TestInterface(unittest.TestCase):
             for name, arguments in functions.items():
                 function = getattr(importlib.import_module("lentloft." + module), name)
                 self.assertEqual(list(inspect.signature(function).parameters), arguments, name)
+
+    def test_methods_stand_in_their_class_itself(self):
+        for (module, name), methods in CLASSES.items():
+            kind = getattr(importlib.import_module("lentloft." + module), name)
+            for method, arguments in methods.items():
+                self.assertIn(method, vars(kind), name)
+                told = list(inspect.signature(vars(kind)[method]).parameters)
+                self.assertEqual(told, ["self"] + arguments, f"{name}.{method}")
 
     def test_refusals(self):
         errors = importlib.import_module("lentloft.errors")

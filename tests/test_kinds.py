@@ -4,8 +4,8 @@ import string
 import unittest
 
 from lentloft.errors import Wrong
-from lentloft.kinds import is_content, is_name, is_place, is_whole, need
-from tests.samples import no_wholes
+from lentloft.kinds import are_contents, is_content, is_grain, is_name, is_place, is_room, is_whole, is_within, need
+from tests.samples import no_grains, no_rooms, no_wholes, no_writings
 
 GREAT = 10 ** 5000
 
@@ -33,6 +33,19 @@ class TestNumbers(unittest.TestCase):
         right = [0, 1, 2, 7, 10 ** 9, 10 ** 9 + 1, 2 ** 31, 2 ** 32, 10 ** 11, 10 ** 12 - 1, 10 ** 12]
         wrong = [-1, -2, -(10 ** 12), -GREAT, 10 ** 12 + 1, 10 ** 12 + 2, 10 ** 13, 2 ** 63, GREAT]
         self.told(is_place, right, wrong + no_wholes())
+
+    def test_is_grain(self):
+        self.told(is_grain, [0, 1, 119, 120, 10 ** 12, 10 ** 12 + 1, GREAT], no_grains())
+
+    def test_is_room(self):
+        self.told(is_room, range(1, 121), no_rooms())
+
+    def test_is_within(self):
+        self.told(lambda thing: is_within(thing, 3, 5), [3, 4, 5], [2, 6, -4, GREAT] + no_wholes())
+
+    def test_are_contents(self):
+        right = [[0], [10 ** 9], [1, 2, 1], list(range(24)), [10 ** 9] * 24]
+        self.told(are_contents, right, no_writings())
 
 
 class TestNames(unittest.TestCase):

@@ -20,6 +20,15 @@ BARRED_WORDS = (
 BARRED_NODES = (
     ast.Import, ast.Global, ast.AsyncFunctionDef, ast.Await, ast.AsyncFor, ast.AsyncWith, ast.Div, ast.MatMult,
 )
+BUILTIN_METHODS = set(
+    "append clear copy count endswith extend find get index insert isalnum isalpha isdigit islower isspace isupper "
+    "items join keys ljust lower lstrip partition pop remove replace reverse rfind rjust rpartition rsplit rstrip "
+    "setdefault split splitlines startswith strip update upper values zfill bit_length add discard sort".split()
+)
+NOT_NAMES = set(
+    "register mro elements open input version_info with_traceback add_note attrgetter builtins gc importlib "
+    "methodcaller os sys super".split()
+)
 DOUBLE = re.compile(r"__(init|eq|repr|str|len|enter|exit|call|iter)__")
 
 
@@ -108,6 +117,54 @@ class TestLanguage(unittest.TestCase):
                 self.assertTrue(name not in known or name in BUILTINS, f"{at} {name}")
             elif isinstance(node, (ast.Name, ast.arg)):
                 self.assertNotIn(name, known, at)
+            self.assertNotIn(name, NOT_NAMES, at)
+
+    def methods(self):
+        return {each.name for at, node in self.each_node(ast.ClassDef)
+                for each in node.body if isinstance(each, ast.FunctionDef)}
+
+    def attributes(self):
+        return {node.attr for at, node in self.each_node(ast.Attribute) if isinstance(node.ctx, ast.Store)}
+
+    def test_no_name_is_a_method_and_an_attribute(self):
+        self.assertEqual(self.methods() & self.attributes(), set())
+
+    def test_own_methods_and_attributes_have_names_of_their_own(self):
+        known = {name for kind in (str, int, list, dict, set, bytes, tuple) for name in dir(kind)}
+        own = {name for name in self.methods() if not DOUBLE.fullmatch(name)} | self.attributes()
+        self.assertEqual(own & known, set())
+
+    def test_each_attribute_that_is_read_is_there(self):
+        there = self.methods() | self.attributes() | BUILTIN_METHODS
+        for at, node in self.each_node(ast.Attribute):
+            self.assertIn(node.attr, there, at)
+
+    def test_each_class_has_each_method_once(self):
+        for at, node in self.each_node(ast.ClassDef):
+            names = [each.name for each in node.body if isinstance(each, ast.FunctionDef)]
+            self.assertEqual(len(names), len(set(names)), at)
+
+    def test_locals_have_names_of_their_own(self):
+        for name, tree in self.trees.items():
+            imported = {alias.asname or alias.name
+                        for node in tree.body if isinstance(node, ast.ImportFrom) for alias in node.names}
+            bound = imported | set(self.bound_in(tree))
+            for function in (node for node in ast.walk(tree) if isinstance(node, ast.FunctionDef)):
+                for node in ast.walk(function):
+                    if isinstance(node, ast.arg):
+                        self.assertNotIn(node.arg, bound, f"{name}.py:{node.lineno}")
+                    elif isinstance(node, ast.Name) and isinstance(node.ctx, ast.Store):
+                        self.assertNotIn(node.id, bound, f"{name}.py:{node.lineno}")
+
+    def test_nothing_is_kept_or_done_at_module_level(self):
+        for name, tree in self.trees.items():
+            for node in tree.body:
+                docstring = isinstance(node, ast.Expr) and isinstance(node.value, ast.Constant)
+                plain = (ast.ImportFrom, ast.FunctionDef, ast.ClassDef, ast.Assign)
+                self.assertTrue(docstring or isinstance(node, plain), f"{name}.py:{node.lineno}")
+                if isinstance(node, ast.Assign):
+                    calls = [each for each in ast.walk(node) if isinstance(each, ast.Call)]
+                    self.assertEqual(calls, [], f"{name}.py:{node.lineno}")
 
 
 if __name__ == "__main__":
