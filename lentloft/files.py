@@ -18,6 +18,11 @@ def are_takeable(thing):
     return all(grain is None or is_grain(grain) for grain in thing)
 
 
+def is_few(thing):
+    """Tell whether a thing is a number of places that can be read at once."""
+    return is_within(thing, 0, MOST_HELD)
+
+
 def runs(pairs):
     """Tell pairs of numbers, whose first ones rise, as tuples (first, many, second), as few as can be.
 
@@ -85,7 +90,7 @@ class File:
 
     def read(self, at, many):
         """Tell the contents of so many places from a place on, as far as the size goes."""
-        need(is_place(at), is_within(many, 0, MOST_HELD))
+        need(is_place(at), is_few(many))
         return [self.content_at(place) for place in range(at, min(at + many, self.end))]
 
     def grain_at(self, place):
@@ -115,6 +120,13 @@ class File:
         """Tell how many grains are let free where the places from at on and ahead of behind let theirs go."""
         going = [self.grains[place] for place in self.held_in(at, behind)]
         return len({grain for grain in going if going.count(grain) == self.home.holds(grain)})
+
+    def same_in(self, pool):
+        """Tell a file of a copied pool that has what this one has; the pool has it held already."""
+        new = File(pool)
+        new.end = self.end
+        new.grains = dict(self.grains)
+        return new
 
     def need_places(self, at, many, held):
         """Refuse to hold so many of many places from a place on where these end too far, or it is too much then."""

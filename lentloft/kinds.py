@@ -38,6 +38,11 @@ def is_place(thing):
     return is_within(thing, 0, TOP_PLACE)
 
 
+def is_some(thing):
+    """Tell whether a thing is a count of one place at least."""
+    return is_within(thing, 1, TOP_PLACE)
+
+
 def is_grain(thing):
     """Tell whether a thing is a grain, kept or not."""
     return is_whole(thing) and thing >= 0
@@ -53,6 +58,11 @@ def is_name(thing):
     if not isinstance(thing, str) or not 1 <= len(thing) <= LONGEST_NAME:
         return False
     return all(letter in LETTERS for letter in thing)
+
+
+def is_where(thing):
+    """Tell whether a thing says where a file is looked for: "" for the living ones, else a label."""
+    return is_name(thing) or isinstance(thing, str) and len(thing) == 0
 
 
 def need(*rights):

@@ -2,7 +2,7 @@
 
 from lentloft.errors import NoPlace, Unlike
 from lentloft.files import File, runs
-from lentloft.kinds import TOP_PLACE, is_place, is_within, need
+from lentloft.kinds import is_place, is_some, need
 from lentloft.spans import joined
 
 
@@ -15,7 +15,7 @@ def need_one_pool(one, other):
 def lend(source, at, many, target, to):
     """Make so many places of the target, from to on, what those of the source, from at on, are."""
     need(
-        isinstance(source, File), is_place(at), is_within(many, 1, TOP_PLACE),
+        isinstance(source, File), is_place(at), is_some(many),
         isinstance(target, File), is_place(to),
     )
     need_one_pool(source, target)

@@ -57,6 +57,13 @@ class Pool:
         """Tell for how many more grains there is room."""
         return self.room - len(self.contents)
 
+    def copied(self):
+        """Tell a new pool that keeps the same grains, under the same numbers and held as often."""
+        new = Pool(self.room)
+        new.contents = dict(self.contents)
+        new.times = dict(self.times)
+        return new
+
     def need_kept(self, grain):
         """Refuse what is no grain, then a grain that isn't kept."""
         need(is_grain(grain))

@@ -21,6 +21,20 @@ def file_state(file):
     return file.size(), held, file.pieces(), [file.grain_at(place) for place in places], read
 
 
+def loft_file_state(loft, where, name):
+    """All that a loft tells of a file, but for what is read of holes."""
+    held = loft.held(where, name)
+    read = [loft.read(where, name, place, 1) for first, behind in held for place in range(first, behind)]
+    return loft.size(where, name), held, loft.pieces(where, name), read
+
+
+def loft_state(loft):
+    """All that a loft tells, but for what is read of holes."""
+    wheres = [*loft.labels(), ""]
+    files = [(where, name, loft_file_state(loft, where, name)) for where in wheres for name in loft.names(where)]
+    return wheres, [loft.names(where) for where in wheres], files, pool_state(loft)
+
+
 def kinds_of(things):
     """The kinds of things, to name a subtest: a thing itself may be too long to be shown."""
     return [type(thing).__name__ for thing in things]
@@ -34,11 +48,22 @@ class Case(unittest.TestCase):
                 function(*things)
             self.assertIs(type(caught.exception), kind)
             self.assertEqual(list(vars(caught.exception).values()), list(fields))
-            for field in vars(caught.exception).values():
-                self.assertIs(type(field), int)
+            for field, told in zip(vars(caught.exception).values(), fields):
+                self.assertIs(type(field), type(told))
 
     def wrong(self, at, function, *things):
         self.refused(Wrong, [at], function, *things)
+
+    def wrong_in_each_way(self, function, goods, bads):
+        """Each argument is refused for each bad thing, whether those behind it are good or not."""
+        for at, things in enumerate(bads):
+            for turn, thing in enumerate(things):
+                told = list(goods)
+                told[at] = thing
+                self.wrong(at, function, *told)
+                for later in range(at + 1, len(goods)):
+                    told[later] = bads[later][turn % len(bads[later])]
+                    self.wrong(at, function, *told)
 
     def pool_with(self, room, *contents):
         """A pool in which contents are laid, each held once beside all files."""
@@ -59,10 +84,25 @@ class Case(unittest.TestCase):
         self.assertEqual([file.grain_at(at + k) for k in range(len(grains))], list(grains))
         self.assertEqual(sum(behind - first for first, behind in file.held()), len(grains) - grains.count(None))
 
+    def unchanged(self, loft, kind, fields, method, *things):
+        """A method of a loft is refused so, and all that the loft tells is as it was."""
+        before = loft_state(loft)
+        self.refused(kind, fields, getattr(loft, method), *things)
+        self.assertEqual(loft_state(loft), before)
+
+    def rule_of_holding(self, loft):
+        """Each kept grain is held just as often as there are places that hold it, and no other one is kept."""
+        wheres = [*loft.labels(), ""]
+        pieces = [piece for where in wheres for name in loft.names(where) for piece in loft.pieces(where, name)]
+        grains = [grain + k for place, many, grain in pieces for k in range(many)]
+        self.assertEqual(loft.kept(), sorted(set(grains)))
+        for grain in loft.kept():
+            self.assertEqual(loft.holds(grain), grains.count(grain))
+
     def times(self, pool, *times):
         """The grains from 0 on are held so often each; 0 where one isn't kept; no other one is kept."""
         self.assertEqual(pool.kept(), [grain for grain, many in enumerate(times) if many])
         self.assertEqual([pool.holds(grain) for grain in pool.kept()], [many for many in times if many])
 
 
-__all__ = ["Case", "TOP", "file_state", "kinds_of", "pool_state"]
+__all__ = ["Case", "TOP", "file_state", "kinds_of", "loft_file_state", "loft_state", "pool_state"]

@@ -133,6 +133,18 @@ def no_takings():
     return no_lists() + [(0,), (None,), {0: None}, {0}, "0", b"0", range(1)] + lists
 
 
+def no_names():
+    """Things that are no names and no labels, "" among them."""
+    texts = ["", "A", "aB", "a1", "0", "7", " ", "a ", " a", "a b", "-", "a-", "a/b", "abcdefghi", "a" * 5000, "a\n", "\n"]
+    things = [thing for thing in no_wholes() if thing not in ("", "a", "0", "7", "\n")]
+    return things + texts + [0, 1, -1, TOP, 10 ** 5000, ["a"], ("a",), {"a": "a"}, b"a"]
+
+
+def no_wheres():
+    """Things that are neither "" nor labels."""
+    return [thing for thing in no_names() if thing != ""]
+
+
 def no_objects():
     """Things that are neither pools nor files."""
     return no_wholes() + [0, 1, -1, TOP, 10 ** 5000, "pool", "file", object(), object]

@@ -14,6 +14,11 @@ FUNCTIONS = {
         "lend": ["source", "at", "many", "target", "to"], "copied": ["file"], "shared": ["one", "other"],
         "differs": ["one", "other"],
     },
+    "owing": {
+        "owners": ["loft"], "holders": ["loft", "grain"], "owes": ["loft", "rule"], "common": ["loft"],
+        "freed_by": ["loft", "some"],
+    },
+    "merging": {"likes": ["loft"], "merge": ["loft", "most"], "part": ["loft", "name"]},
 }
 CLASSES = {
     ("pool", "Pool"): {
@@ -24,6 +29,15 @@ CLASSES = {
         "__init__": ["pool"], "pool": [], "size": [], "resize": ["size"], "make_holes": ["at", "many"],
         "write": ["at", "contents"], "take": ["at", "grains"], "read": ["at", "many"], "grain_at": ["place"],
         "held": [], "pieces": [],
+    },
+    ("loft", "Loft"): {
+        "__init__": ["room"], "names": ["where"], "labels": [], "size": ["where", "name"],
+        "read": ["where", "name", "at", "many"], "held": ["where", "name"], "pieces": ["where", "name"],
+        "make": ["name"], "drop": ["name"], "resize": ["name", "size"], "write": ["name", "at", "contents"],
+        "hole": ["name", "at", "many"], "lend": ["where", "name", "at", "many", "target", "to"],
+        "twin": ["where", "name", "new"], "freeze": ["label"], "forget": ["label"], "back": ["label"],
+        "exchange": ["grain", "other"], "kept": [], "left": [], "content_of": ["grain"], "holds": ["grain"],
+        "copied": [],
     },
 }
 REFUSALS = {

@@ -10,6 +10,17 @@ class Refusal(Exception):
     """What should be refused: the name of the class, and what it is made of."""
 
 
+def runs(pairs):
+    """Pairs of numbers put together where both go on."""
+    told = []
+    for at, to in pairs:
+        if told and (told[-1][0] + told[-1][1], told[-1][2] + told[-1][1]) == (at, to):
+            told[-1][1] += 1
+        else:
+            told.append([at, 1, to])
+    return [tuple(each) for each in told]
+
+
 class World:
     def __init__(self, room, many, base=0):
         self.room = room
@@ -103,24 +114,14 @@ class World:
     def read(self, file):
         return [self.contents.get(grain, 0) for grain in self.files[file]]
 
-    def runs(self, pairs):
-        """Pairs, each with its own place, put together where both go on."""
-        told = []
-        for at, to in pairs:
-            if told and (told[-1][0] + told[-1][1], told[-1][2] + told[-1][1]) == (at, to):
-                told[-1][1] += 1
-            else:
-                told.append([at, 1, to])
-        return [tuple(each) for each in told]
-
     def pieces(self, file):
         cells = enumerate(self.files[file], start=self.base)
-        return self.runs([(place, grain) for place, grain in cells if grain is not None])
+        return runs([(place, grain) for place, grain in cells if grain is not None])
 
     def shared(self, one, other):
         pairs = [(self.base + place, self.base + self.files[other].index(grain))
                  for place, grain in enumerate(self.files[one]) if grain is not None and grain in self.files[other]]
-        return self.runs(pairs)
+        return runs(pairs)
 
     def differs(self, one, other):
         """The places, counted from 0 as the cells are."""
