@@ -4,11 +4,9 @@ A file keeps just the places that are no holes, so nothing here goes place by pl
 """
 
 from lentloft.errors import NoPlace, NoRoom, TooFull
-from lentloft.kinds import TOP_PLACE, are_contents, is_grain, is_place, is_within, need
+from lentloft.kinds import MOST_HELD, TOP_PLACE, are_contents, is_few, is_grain, is_place, need
 from lentloft.pool import Pool
 from lentloft.spans import joined
-
-MOST_HELD = 60
 
 
 def are_takeable(thing):
@@ -16,11 +14,6 @@ def are_takeable(thing):
     if not isinstance(thing, list) or not 1 <= len(thing) <= MOST_HELD:
         return False
     return all(grain is None or is_grain(grain) for grain in thing)
-
-
-def is_few(thing):
-    """Tell whether a thing is a number of places that can be read at once."""
-    return is_within(thing, 0, MOST_HELD)
 
 
 def runs(pairs):

@@ -6,6 +6,7 @@ TOP_CONTENT = 10 ** 9
 TOP_PLACE = 10 ** 12
 LONGEST_NAME = 8
 MOST_ROOM = 120
+MOST_HELD = 60
 MOST_CONTENTS = 24
 LETTERS = "abcdefghijklmnopqrstuvwxyz"
 
@@ -43,6 +44,16 @@ def is_some(thing):
     return is_within(thing, 1, TOP_PLACE)
 
 
+def is_few(thing):
+    """Tell whether a thing is a number of places that can be read at once."""
+    return is_within(thing, 0, MOST_HELD)
+
+
+def is_most(thing):
+    """Tell whether a thing is a number of mergings that can be asked for."""
+    return is_within(thing, 0, MOST_ROOM)
+
+
 def is_grain(thing):
     """Tell whether a thing is a grain, kept or not."""
     return is_whole(thing) and thing >= 0
@@ -63,6 +74,23 @@ def is_name(thing):
 def is_where(thing):
     """Tell whether a thing says where a file is looked for: "" for the living ones, else a label."""
     return is_name(thing) or isinstance(thing, str) and len(thing) == 0
+
+
+def is_base(thing):
+    """Tell whether a thing is what a parcel may be told of: a label, or None for a state without files."""
+    return thing is None or is_name(thing)
+
+
+KINDS = {
+    "name": is_name, "base": is_base, "place": is_place, "some": is_some, "few": is_few, "most": is_most,
+    "contents": are_contents,
+}
+
+
+def is_of(kind, thing):
+    """Tell whether a thing is of the kind of this name."""
+    right = KINDS[kind]
+    return right(thing)
 
 
 def need(*rights):

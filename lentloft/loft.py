@@ -1,8 +1,8 @@
 """The loft: living files by names, and frozen states of all of them by labels, of one pool."""
 
 from lentloft.errors import NoFile, NoLabel, There, TooMany, Unlike
-from lentloft.files import File, is_few
-from lentloft.kinds import are_contents, is_grain, is_name, is_place, is_some, is_where, need
+from lentloft.files import File
+from lentloft.kinds import are_contents, is_few, is_grain, is_name, is_place, is_some, is_where, need
 from lentloft.lending import copied, lend
 from lentloft.pool import Pool
 

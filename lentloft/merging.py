@@ -1,14 +1,9 @@
 """Merging grains that are alike, and parting what a file shares again; nothing that is read is changed by it."""
 
 from lentloft.errors import NoRoom
-from lentloft.kinds import MOST_ROOM, is_name, is_within, need
+from lentloft.kinds import is_most, is_name, need
 from lentloft.loft import Loft
 from lentloft.owing import grains_of
-
-
-def is_most(thing):
-    """Tell whether a thing is a number of mergings that can be asked for."""
-    return is_within(thing, 0, MOST_ROOM)
 
 
 def likes(loft):

@@ -4,6 +4,7 @@ import unittest
 
 from lentloft.errors import LoftError, Wrong
 from lentloft.files import File
+from lentloft.loft import Loft
 from lentloft.pool import Pool
 from tests.samples import TOP
 
@@ -19,6 +20,18 @@ def file_state(file):
     places = [place for first, behind in held for place in range(first, behind)]
     read = [file.read(place, 1) for place in places]
     return file.size(), held, file.pieces(), [file.grain_at(place) for place in places], read
+
+
+def loft_with(room, **files):
+    """A loft with living files of these contents, None being a hole."""
+    loft = Loft(room)
+    for name, contents in files.items():
+        loft.make(name)
+        for place, content in enumerate(contents):
+            if content is not None:
+                loft.write(name, place, [content])
+        loft.resize(name, len(contents))
+    return loft
 
 
 def loft_file_state(loft, where, name):
@@ -105,4 +118,5 @@ class Case(unittest.TestCase):
         self.assertEqual([pool.holds(grain) for grain in pool.kept()], [many for many in times if many])
 
 
-__all__ = ["Case", "TOP", "file_state", "kinds_of", "loft_file_state", "loft_state", "pool_state"]
+__all__ = ["Case", "TOP", "file_state", "kinds_of", "loft_file_state", "loft_state", "loft_with",
+           "pool_state"]

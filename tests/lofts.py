@@ -4,6 +4,7 @@ Nothing is counted here: a grain is kept where some cell has it, and what is kep
 """
 
 import copy
+import re
 from fractions import Fraction
 
 from tests.samples import TOP, normal_of
@@ -241,3 +242,148 @@ class PlainLoft:
                 laid += 1
         self.living, self.contents = trial.living, trial.contents
         return laid
+
+    # Parcels.
+
+    def base(self, base):
+        return {} if base is None else self.files(base)
+
+    def way(self, base, label, name, place):
+        """How a place of a parcel's file is told: None of a hole."""
+        grain = self.files(label)[name][place]
+        if grain is None:
+            return None
+        files = self.base(base)
+        holding = [(other, there) for other in sorted(files) for there,
+                   cell in enumerate(files[other]) if cell == grain]
+        if holding:
+            return ("lend", *((name, place) if (name, place) in holding else holding[0]))
+        own = self.files(label)
+        first = [(other, there) for other in sorted(own) for there, cell in enumerate(own[other]) if cell == grain][0]
+        return ("write",) if first == (name, place) else ("again", *first)
+
+    def far(self, ways, at):
+        """How many places from one on are told in one row."""
+        many = 1
+        while at + many < len(ways) and ways[at + many] is not None:
+            here, there = ways[at], ways[at + many]
+            if here[0] == "write":
+                if there[0] != "write" or many == 24:
+                    break
+            elif there != (here[0], here[1], here[2] + many):
+                break
+            many += 1
+        return many
+
+    def parcel(self, base, label):
+        gone, names = self.base(base), self.files(label)
+        rows = [("gone", name) for name in sorted(set(gone) - set(names))]
+        for name in sorted(names):
+            rows.append(("file", name, len(names[name])))
+            ways = [self.way(base, label, name, place) for place in range(len(names[name]))]
+            at = 0
+            while at < len(ways):
+                if ways[at] is None:
+                    at += 1
+                    continue
+                many = self.far(ways, at)
+                if ways[at][0] == "write":
+                    rows.append(("write", at, self.read_all(label, name)[at:at + many]))
+                else:
+                    rows.append((ways[at][0], at, many, ways[at][1], ways[at][2]))
+                at += many
+        return rows
+
+    def need_right(self, base, rows):
+        sizes = {name: len(cells) for name, cells in self.base(base).items()}
+        for at, row in enumerate(rows):
+            if not right_behind(sizes, rows[:at], row):
+                raise Refusal("NoParcel", at)
+        told = [row[1] for row in rows if row[0] in ("gone", "file")]
+        if set(sizes) - set(told):
+            raise Refusal("NoParcel", len(rows))
+
+    def laid(self, base, rows):
+        """The cells of the files that rows tell, what is written being told as lists of one content."""
+        new = {}
+        for word, *things in rows:
+            if word == "file":
+                current, size = things
+                new[current] = [None] * size
+            elif word == "write":
+                at, contents = things
+                new[current][at:at + len(contents)] = [[content] for content in contents]
+            elif word != "gone":
+                at, many, name, there = things
+                source = self.base(base) if word == "lend" else new
+                new[current][at:at + many] = source[name][there:there + many]
+        return new
+
+    def lay_rows(self, base, rows):
+        self.need_right(base, rows)
+        new = self.laid(base, rows)
+        if any(len(cells) - cells.count(None) > 60 for cells in new.values()):
+            raise Refusal("TooFull")
+        frozen = {cell for label, files in self.frozen for cells in files.values() for cell in cells} - {None}
+        bearing = [row for row in rows if row[0] == "write"]
+        if len(frozen) + sum(len(row[2]) for row in bearing) > self.room:
+            raise Refusal("NoRoom")
+        self.living = {}
+        self.sweep()
+        grains = {}
+        for name in sorted(new):
+            self.living[name] = []
+            for cell in new[name]:
+                if isinstance(cell, list) and id(cell) not in grains:
+                    grains[id(cell)] = self.lay(cell[0])
+                self.living[name].append(grains[id(cell)] if isinstance(cell, list) else cell)
+
+
+def row_is_one(row):
+    """Whether a row is one of the five kinds, asked in the plainest way."""
+    def name(thing):
+        return type(thing) is str and re.fullmatch("[a-z]{1,8}", thing) is not None
+
+    def number(thing, least=0, most=TOP):
+        return type(thing) is int and least <= thing <= most
+
+    if type(row) is not tuple or not row or type(row[0]) is not str:
+        return False
+    if row[0] == "gone":
+        return len(row) == 2 and name(row[1])
+    if row[0] == "file":
+        return len(row) == 3 and name(row[1]) and number(row[2])
+    if row[0] == "write":
+        return (len(row) == 3 and number(row[1]) and type(row[2]) is list and 1 <= len(row[2]) <= 24
+                and all(number(content, 0, 10 ** 9) for content in row[2]))
+    if row[0] in ("lend", "again"):
+        return len(row) == 5 and number(row[1]) and number(row[2], 1) and name(row[3]) and number(row[4])
+    return False
+
+
+def end_of(row):
+    return row[1] + (len(row[2]) if row[0] == "write" else row[2])
+
+
+def right_behind(sizes, ahead, row):
+    """Whether a row is right behind right rows, of a base of these sizes: each word of point 45 asked by itself."""
+    if not row_is_one(row):
+        return False
+    gone = [each[1] for each in ahead if each[0] == "gone"]
+    files = [each for each in ahead if each[0] == "file"]
+    if row[0] == "gone":
+        return not files and row[1] in sizes and all(name < row[1] for name in gone)
+    if row[0] == "file":
+        return len(files) < 6 and all(each[1] < row[1] for each in files) and row[1] not in gone
+    if not files:
+        return False
+    same = ahead[ahead.index(files[-1]) + 1:]
+    if any(row[1] < end_of(each) for each in same) or end_of(row) > files[-1][2]:
+        return False
+    if row[0] == "write":
+        return True
+    word, place, many, name, there = row
+    if word == "lend":
+        return name in sizes and there + many <= sizes[name]
+    told = {each[1]: each[2] for each in files}
+    return name in told and there + many <= told[name] and (name != files[-1][1] or there + many <= place)

@@ -135,7 +135,8 @@ def no_takings():
 
 def no_names():
     """Things that are no names and no labels, "" among them."""
-    texts = ["", "A", "aB", "a1", "0", "7", " ", "a ", " a", "a b", "-", "a-", "a/b", "abcdefghi", "a" * 5000, "a\n", "\n"]
+    texts = ["", "A", "aB", "a1", "0", "7", " ", "a ", " a", "a b", "-", "a-", "a/b", "abcdefghi", "a" * 5000, "a\n",
+             "\n"]
     things = [thing for thing in no_wholes() if thing not in ("", "a", "0", "7", "\n")]
     return things + texts + [0, 1, -1, TOP, 10 ** 5000, ["a"], ("a",), {"a": "a"}, b"a"]
 

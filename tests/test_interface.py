@@ -19,6 +19,9 @@ FUNCTIONS = {
         "freed_by": ["loft", "some"],
     },
     "merging": {"likes": ["loft"], "merge": ["loft", "most"], "part": ["loft", "name"]},
+    "parcels": {"parcel": ["loft", "base", "label"], "lay": ["loft", "base", "rows"], "contents_in": ["rows"]},
+    "deeds": {"do_deed": ["loft", "deed"], "show_deed": ["deed"], "read_deed": ["text"]},
+    "logs": {"come_up": ["room", "text"]},
 }
 CLASSES = {
     ("pool", "Pool"): {
@@ -39,6 +42,10 @@ CLASSES = {
         "exchange": ["grain", "other"], "kept": [], "left": [], "content_of": ["grain"], "holds": ["grain"],
         "copied": [],
     },
+    ("logs", "Keeper"): {
+        "__init__": ["room"], "do": ["deed"], "do_together": ["deeds"], "log": [], "kept_loft": [], "loft": [],
+    },
+    ("desk", "Desk"): {"__init__": [], "say": ["text"]},
 }
 REFUSALS = {
     "Wrong": ["at"], "NoRoom": [], "TooFull": [], "NoPlace": ["place"], "NoGrain": ["grain"], "NoFile": ["name"],

@@ -155,6 +155,8 @@ class TestLanguage(unittest.TestCase):
                         self.assertNotIn(node.arg, bound, f"{name}.py:{node.lineno}")
                     elif isinstance(node, ast.Name) and isinstance(node.ctx, ast.Store):
                         self.assertNotIn(node.id, bound, f"{name}.py:{node.lineno}")
+                    elif isinstance(node, (ast.MatchAs, ast.MatchStar)):
+                        self.assertNotIn(node.name, bound | set(dir(builtins)), f"{name}.py:{node.lineno}")
 
     def test_nothing_is_kept_or_done_at_module_level(self):
         for name, tree in self.trees.items():

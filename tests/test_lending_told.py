@@ -93,7 +93,8 @@ class TestShared(Case):
         files = [self.file_with(pool, *grains) for grains in cells]
         for one, file in zip(cells, files):
             for other, there in zip(cells, files):
-                pairs = [(at, other.index(grain)) for at, grain in enumerate(one) if grain is not None and grain in other]
+                pairs = [(at, other.index(grain)) for at,
+                         grain in enumerate(one) if grain is not None and grain in other]
                 told = shared(file, there)
                 self.assertEqual([(at + k, to + k) for at, many, to in told for k in range(many)], pairs)
                 least = sum((at - 1, to - 1) not in pairs for at, to in pairs)

@@ -3,21 +3,9 @@
 import unittest
 
 from lentloft.loft import Loft
-from tests.cases import TOP, Case, loft_state
+from tests.cases import TOP, Case, loft_state, loft_with
 
 SIX = ["a", "ab", "b", "ba", "zzzzzzzz", "c"]
-
-
-def loft_with(room, **files):
-    """A loft with living files of these contents, None being a hole."""
-    loft = Loft(room)
-    for name, contents in files.items():
-        loft.make(name)
-        for place, content in enumerate(contents):
-            if content is not None:
-                loft.write(name, place, [content])
-        loft.resize(name, len(contents))
-    return loft
 
 
 class TestNew(Case):
@@ -197,7 +185,8 @@ class TestTwin(Case):
         loft.drop("a")
         loft.twin("a", "a", "a")
         loft.twin("a", "a", "b")
-        self.assertEqual((loft.names(""), loft.read("", "a", 0, 9), loft.read("", "b", 0, 9)), (["a", "b"], [1, 2], [1, 2]))
+        self.assertEqual((loft.names(""), loft.read("", "a", 0, 9), loft.read("", "b", 0, 9)),
+                         (["a", "b"], [1, 2], [1, 2]))
         self.assertEqual([loft.holds(grain) for grain in loft.kept()], [3, 3])
 
     def test_of_an_empty_file_and_of_holes(self):

@@ -5,8 +5,7 @@ import unittest
 
 from lentloft.errors import NoRoom, TooMany, Unlike
 from lentloft.loft import Loft
-from tests.cases import Case, loft_file_state, loft_state
-from tests.test_loft import loft_with
+from tests.cases import Case, loft_file_state, loft_state, loft_with
 
 FIVE = ["s", "b", "winter", "a", "zzzzzzzz"]
 
@@ -52,7 +51,8 @@ class TestFreeze(Case):
         loft.drop("a")
         loft.make("d")
         loft.freeze("t")
-        self.assertEqual((loft.names("s"), loft.names("t"), loft.names("")), (["a", "b", "c"], list("bcd"), list("bcd")))
+        self.assertEqual((loft.names("s"), loft.names("t"), loft.names("")),
+                         (["a", "b", "c"], list("bcd"), list("bcd")))
 
     def test_a_state_without_files(self):
         loft = Loft(2)
@@ -171,7 +171,8 @@ class TestExchange(Case):
         self.assertEqual((loft.kept(), loft.left()), ([0, 2, 3], 6))
         self.assertEqual(loft.holds(3), 8)
         for where in ("", "s", "t"):
-            self.assertEqual(loft.pieces(where, "a"), [(0, 1, 0), (1, 1, 3), (2, 1, 2), (4, 1, 0), (5, 1, 3), (6, 1, 2)])
+            self.assertEqual(loft.pieces(where, "a"), [(0, 1, 0), (1, 1, 3), (2, 1, 2), (4, 1, 0), (5, 1, 3),
+                                                       (6, 1, 2)])
             for name in "ab":
                 self.assertEqual(loft.read(where, name, 0, 60), read[where][name])
         self.rule_of_holding(loft)
@@ -311,8 +312,10 @@ class TestRoom(Case):
     def test_no_other_deed_wants_room(self):
         loft = loft_with(1, a=[1], b=[])
         deeds = (
-            ("make", "c"), ("resize", "b", 5), ("hole", "b", 0, 2), ("lend", "", "a", 0, 1, "b", 3), ("twin", "", "a", "d"),
-            ("freeze", "s"), ("lend", "s", "a", 0, 1, "c", 3), ("twin", "s", "b", "e"), ("back", "s"), ("exchange", 0, 0),
+            ("make", "c"), ("resize", "b", 5), ("hole", "b", 0, 2), ("lend", "", "a", 0, 1, "b", 3),
+            ("twin", "", "a", "d"),
+            ("freeze", "s"), ("lend", "s", "a", 0, 1, "c", 3), ("twin", "s", "b", "e"), ("back", "s"),
+            ("exchange", 0, 0),
             ("freeze", "t"), ("forget", "s"), ("drop", "b"), ("back", "t"),
         )
         for word, *things in deeds:

@@ -5,8 +5,7 @@ import unittest
 from lentloft.loft import Loft
 from lentloft.merging import likes
 from lentloft.owing import freed_by, holders, owes, owners
-from tests.cases import Case, loft_state
-from tests.test_loft import loft_with
+from tests.cases import Case, loft_state, loft_with
 
 
 def spoil(told):

@@ -4,8 +4,7 @@ import unittest
 
 from lentloft.errors import NoFile, NoGrain, NoLabel, NoPlace, NoRoom, There, TooFull, TooMany, Unlike, Wrong
 from lentloft.loft import Loft
-from tests.cases import TOP, Case, loft_state
-from tests.test_loft import loft_with
+from tests.cases import TOP, Case, loft_state, loft_with
 
 
 class TestNoLabel(Case):

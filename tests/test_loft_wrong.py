@@ -3,9 +3,8 @@
 import unittest
 
 from lentloft.loft import Loft
-from tests.cases import TOP, Case, loft_state
+from tests.cases import TOP, Case, loft_state, loft_with
 from tests.samples import no_grains, no_many_of, no_names, no_places, no_rooms, no_wheres, no_writings
-from tests.test_loft import loft_with
 
 # For each method, one list of arguments that are good, and one that would be refused otherwise.
 METHODS = {

@@ -7,9 +7,8 @@ from lentloft.errors import NoFile, NoRoom
 from lentloft.loft import Loft
 from lentloft.merging import likes, merge, part
 from lentloft.owing import owners
-from tests.cases import Case, loft_state
+from tests.cases import Case, loft_state, loft_with
 from tests.samples import no_many_of, no_names, no_objects
-from tests.test_loft import loft_with
 
 
 def reads(loft):
@@ -71,7 +70,8 @@ class TestMerge(Case):
         loft = with_likes()
         before = reads(loft)
         # The least grain that has a lesser one alike: 2 for 0, 3 and 4 for 1, 6 for 0, 8 for 5.
-        for kept in ([0, 1, 3, 4, 5, 6, 7, 8], [0, 1, 4, 5, 6, 7, 8], [0, 1, 5, 6, 7, 8], [0, 1, 5, 7, 8], [0, 1, 5, 7]):
+        for kept in ([0, 1, 3, 4, 5, 6, 7, 8], [0, 1, 4, 5, 6, 7, 8], [0, 1, 5, 6, 7, 8], [0, 1, 5, 7, 8],
+                     [0, 1, 5, 7]):
             self.assertEqual(merge(loft, 1), 1)
             self.assertEqual(loft.kept(), kept)
             self.assertEqual(reads(loft), before)
@@ -100,7 +100,8 @@ class TestMerge(Case):
     def test_by_chance_in_pieces(self):
         chance = random.Random(7)
         for _ in range(20):
-            loft = loft_with(120, **{name: [chance.randint(0, 4) for _ in range(chance.randint(0, 12))] for name in "abc"})
+            loft = loft_with(120, **{name: [chance.randint(0, 4) for _ in range(chance.randint(0,
+                                                                                               12))] for name in "abc"})
             loft.freeze("s")
             if loft.size("", "a"):
                 loft.write("a", 0, [chance.randint(0, 4)])

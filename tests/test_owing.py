@@ -8,9 +8,8 @@ from math import gcd
 from lentloft.errors import NoFile, NoGrain, NoLabel
 from lentloft.loft import Loft
 from lentloft.owing import common, freed_by, holders, owes, owners
-from tests.cases import Case, loft_state
+from tests.cases import Case, loft_state, loft_with
 from tests.samples import Stranger, no_grains, no_lists, no_names, no_objects, no_wheres
-from tests.test_loft import loft_with
 
 RULES = ("alone", "eldest", "even", "places")
 
@@ -261,7 +260,8 @@ def no_owner_lists():
     bads += [(), ("",), ("a",), ("", "a", "a"), ["", "a"], "a", "ab", None, True, 0, {"": "a"}, ((), ())]
     lists = [[bad] for bad in bads] + [[good, bad] for bad in bads] + [[bad, good] for bad in bads]
     lists += [[good, ("x", "a"), bad, ("", "b")] for bad in bads]
-    twice = [[good, good], [good, ("s", "a"), good], [("x", "x"), good, ("x", "x")], [("", "a"), ("t", "b"), ("t", "b")]]
+    twice = [[good, good], [good, ("s", "a"), good], [("x", "x"), good, ("x", "x")],
+             [("", "a"), ("t", "b"), ("t", "b")]]
     return no_lists() + [(("", "a"),), {("", "a")}] + lists + twice
 
 
@@ -270,7 +270,8 @@ class TestWrong(Case):
         loft = two_states()
         before = loft_state(loft)
         no_lofts = no_objects() + [Loft, "a", loft_state]
-        no_rules = no_names() + ["Alone", "alone ", "eldests", "all", "", "place", None, Stranger(), ["even"], ("even",)]
+        no_rules = no_names() + ["Alone", "alone ", "eldests", "all", "", "place", None, Stranger(), ["even"],
+                                 ("even",)]
         for function in (owners, common):
             self.wrong_in_each_way(function, [loft], [no_lofts])
         for grain in (0, 99):
